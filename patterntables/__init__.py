@@ -1,0 +1,1 @@
+"""Words parted by patterns: packed tables."""
