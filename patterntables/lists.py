@@ -77,12 +77,25 @@ def read_word(reader, held):
     reader.take(SIGN)
 
 
+def all_signs(entries):
+    return [entry.signs for entry in entries]
+
+
+def with_entry(entries, entry):
+    """These entries and one more, which takes the place of the one with the same signs."""
+    signs = all_signs(entries)
+    if entry.signs not in signs:
+        return entries + [entry]
+    place = signs.index(entry.signs)
+    return entries[:place] + [entry] + entries[place + 1:]
+
+
 def read_pattern(reader, held):
     token = take_behind_keyword(reader, "pattern", len(held.entries), MOST_PATTERNS)
     entry = pattern_entry(token.chunk)
     if entry is None:
         raise Fault(NOT_AS_TOLD, token.place)
-    if entry.signs in [earlier.signs for earlier in held.entries]:
+    if entry.signs in all_signs(held.entries):
         raise Fault(TOLD_BEFORE, token.place)
     held.entries.append(entry)
     reader.take(SIGN)

@@ -1,6 +1,7 @@
 """Words looked up in a table, and parted."""
 
 from patterntables.chunks import EDGE
+from patterntables.nodes import nodes_along
 
 
 class Found:
@@ -20,12 +21,11 @@ def go_from(table, signs, begin, found):
     """Goes as far as the signs from begin on lead, and puts over what ends on the way."""
     # The sign in front of all letters is no letter: it shares gap 0 with the first one.
     gap = max(begin - 1, 0)
-    number = table.first
-    for sign in signs[begin:]:
-        found.steps += 1
-        number = table.nodes[number].way_by(sign)
-        if number is None:
-            return
+    ahead = signs[begin:]
+    reached = nodes_along(table, ahead)
+    # The first node is reached without a step, but a sign that leads no further is one.
+    found.steps += min(len(reached), len(ahead))
+    for number in reached:
         if table.nodes[number].digits is not None:
             found.put_over(table.nodes[number].digits, gap)
 

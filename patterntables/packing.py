@@ -1,33 +1,18 @@
 """Patterns packed into a table, with all ends shared that can be."""
 
 from patterntables.chunks import Entry
+from patterntables.nodes import Node, Table
 
 
-class Node:
-    """The digits of the pattern that ends here, or None; and ways on: (sign, node's number)."""
-
-    def __init__(self, digits, ways):
-        self.digits = digits
-        self.ways = ways
-
-    def way_by(self, sign):
-        """The number of the node that a sign leads to, or None."""
-        for way in self.ways:
-            if way[0] == sign:
-                return way[1]
-        return None
-
-
-class Table:
-    """Nodes by their numbers, no two of which tell the same."""
+class Packer:
+    """Makes nodes, each once."""
 
     def __init__(self):
         self.nodes = []
         self.numbers = {}
-        self.first = 0
 
     def number_of(self, digits, ways):
-        """The number of the node that tells just this, made if it isn't there."""
+        """The number of the node with just these, made if it isn't there."""
         told = (digits, ways)
         if told not in self.numbers:
             self.numbers[told] = len(self.nodes)
@@ -53,19 +38,19 @@ def digits_here(entries):
     return None
 
 
-def node_of(entries, table):
+def node_of(entries, packer):
     """The number of the node of some entries; as deep as a pattern has signs."""
     ways = []
     for sign in first_signs(entries):
-        ways.append((sign, node_of(entries_behind(entries, sign), table)))
-    return table.number_of(digits_here(entries), tuple(ways))
+        ways.append((sign, node_of(entries_behind(entries, sign), packer)))
+    return packer.number_of(digits_here(entries), tuple(ways))
 
 
 def packed(entries):
     """The table of some patterns' entries."""
-    table = Table()
-    table.first = node_of(entries, table)
-    return table
+    packer = Packer()
+    first = node_of(entries, packer)
+    return Table(packer.nodes, first)
 
 
 def nodes_without_sharing(entries):
@@ -84,21 +69,26 @@ def sizes(table, entries):
     return [len(table.nodes), ways, ends, nodes_without_sharing(entries)]
 
 
-def told_node(node):
-    """A node as numbers."""
-    told = [0]
-    if node.digits is not None:
-        told = [1, len(node.digits)] + list(node.digits)
-    told.append(len(node.ways))
-    for way in node.ways:
-        told.extend(way)
-    return told
+def ways_through(ways, numbers):
+    """These ways, to nodes by other numbers; None if one of the nodes has none."""
+    if any([way[1] not in numbers for way in ways]):
+        return None
+    return tuple([(way[0], numbers[way[1]]) for way in ways])
 
 
-def told_table(table):
-    """A table as numbers: how many nodes, each of them, and the first one's number."""
-    told = [len(table.nodes)]
-    for node in table.nodes:
-        told.extend(told_node(node))
-    told.append(table.first)
-    return told
+def kept_nodes(before, after):
+    """How many nodes of one packed table are in another, too.
+
+    In a packed table no two nodes tell the same, so two nodes tell the same just if their
+    digits are the same, and their ways by the same signs lead to nodes that tell the same;
+    a node's ways lead to lesser numbers, which have been looked for before it.
+    """
+    numbers_after = {}
+    for number, node in enumerate(after.nodes):
+        numbers_after[(node.digits, node.ways)] = number
+    kept = {}
+    for number, node in enumerate(before.nodes):
+        told = (node.digits, ways_through(node.ways, kept))
+        if told in numbers_after:
+            kept[number] = numbers_after[told]
+    return len(kept)

@@ -1,10 +1,14 @@
 """The calls on one object that holds a list and its patterns' table."""
 
-from patterntables.chunks import are_word_letters
+from patterntables.checking import is_right, tells_just
+from patterntables.chunks import are_word_letters, pattern_entry
 from patterntables.faults import Fault
-from patterntables.lists import read_list
+from patterntables.lists import MOST_PATTERNS, read_list, with_entry
 from patterntables.lookup import look_up, parted_gaps
-from patterntables.packing import packed, sizes, told_table
+from patterntables.nodes import counted_ends, digits_at, nodes_along
+from patterntables.packing import kept_nodes, packed, sizes
+from patterntables.rows import NotTold, RowReader
+from patterntables.telling import read_table, told_node, told_table
 
 LOAD = 0
 TABLE = 1
@@ -16,39 +20,6 @@ DROP = 6
 CHECK = 7
 FIND = 8
 NODE = 9
-
-
-class UnknownCall(Exception):
-    """This program has no call with this number."""
-
-
-class CallReader:
-    """Takes calls, number by number and row by row, out of one list of numbers."""
-
-    def __init__(self, calls):
-        self.calls = calls
-        self.at = 0
-
-    def is_done(self):
-        return self.at >= len(self.calls)
-
-    def take_number(self):
-        number = self.calls[self.at]
-        self.at += 1
-        return number
-
-    def take_row(self):
-        begin = self.at + 1
-        self.at = begin + self.calls[self.at]
-        return self.calls[begin:self.at]
-
-    def take_argument(self, call):
-        """What a call brings with it: a row, a number or None."""
-        if call in (LOAD, LEVELS, PART, ADD, CHECK, FIND):
-            return self.take_row()
-        if call in (DROP, NODE):
-            return self.take_number()
-        return None
 
 
 class Holder:
@@ -95,6 +66,67 @@ def part(holder, letters):
     return [len(gaps)] + gaps
 
 
+def hold_entries(holder, entries):
+    """Other patterns are held from now on; what add and drop answer of it."""
+    before = holder.table
+    holder.held.entries = entries
+    holder.table = packed(entries)
+    return patterns_and_sizes(holder) + [kept_nodes(before, holder.table)]
+
+
+def add(holder, pattern):
+    entry = pattern_entry(pattern)
+    if entry is None:
+        return [-4]
+    entries = with_entry(holder.held.entries, entry)
+    if len(entries) > MOST_PATTERNS:
+        return [-7]
+    return hold_entries(holder, entries)
+
+
+def drop(holder, number):
+    entries = holder.held.entries
+    if number < 0 or number >= len(entries):
+        return [-2]
+    return hold_entries(holder, entries[:number] + entries[number + 1:])
+
+
+def check(holder, numbers):
+    try:
+        table = read_table(numbers)
+    except NotTold:
+        return [-4]
+    # What the nodes tell can't be gone through before it's known that they go on to lesser ones alone.
+    if not is_right(table):
+        return [0, 0, len(table.nodes)]
+    just = tells_just(table, holder.held.entries)
+    return [1 if just else 0, 1, len(table.nodes)]
+
+
+def find_pattern(holder, pattern):
+    entry = pattern_entry(pattern)
+    if entry is None:
+        return [-4]
+    is_there = digits_at(holder.table, entry.signs) is not None
+    return [1 if is_there else 0] + nodes_along(holder.table, entry.signs)
+
+
+def node_and_ends(holder, number):
+    nodes = holder.table.nodes
+    if number < 0 or number >= len(nodes):
+        return [-2]
+    return [counted_ends(holder.table)[number]] + told_node(nodes[number])
+
+
+def argument_of(reader, call):
+    """What a call brings with it: a row, a number or None."""
+    if call in (LOAD, LEVELS, PART, ADD, CHECK, FIND):
+        return reader.take_row()
+    if call in (DROP, NODE):
+        return reader.take_number()
+    return None
+
+
 def answer_of(holder, call, argument):
     """The answer to one call: its numbers, or a refusal alone."""
     if call == LOAD:
@@ -109,17 +141,25 @@ def answer_of(holder, call, argument):
         return levels_between(holder, argument)
     if call == PART:
         return part(holder, argument)
-    raise UnknownCall(call)
+    if call == ADD:
+        return add(holder, argument)
+    if call == DROP:
+        return drop(holder, argument)
+    if call == CHECK:
+        return check(holder, argument)
+    if call == FIND:
+        return find_pattern(holder, argument)
+    return node_and_ends(holder, argument)
 
 
 def answers(calls):
     """The answers to all calls of a list, one behind another, each with how many numbers it has."""
-    reader = CallReader(calls)
+    reader = RowReader(calls)
     holder = Holder()
     told = []
     while not reader.is_done():
         call = reader.take_number()
-        answer = answer_of(holder, call, reader.take_argument(call))
+        answer = answer_of(holder, call, argument_of(reader, call))
         told.append(len(answer))
         told.extend(answer)
     return told

@@ -134,8 +134,9 @@ class Refused(unittest.TestCase):
     def test_letters_that_are_none(self):
         for letters in ["", "a", "a" * 17, "aB", "Ab", "a-b", "a1", ".a", "ab ", " ab", "a`", "a{", "ab\n",
                         [97, 0], [0, 97], [97, 255], "a" * 8192]:
-            told = ask(load(text_of(["a1"])), levels(letters), part(letters), levels("aa"), part("aa"))
-            self.assertEqual(told[1:], [[-4], [-4], [1, 1, 6], [1, 1]])
+            for call in levels, part:
+                told = ask(load(text_of(["a1"])), call(letters), levels("aa"), part("aa"))
+                self.assertEqual(told[1:], [[-4], [1, 1, 6], [1, 1]])
 
     def test_letters_at_the_edges(self):
         for letters in ["az", "za", "a" * 16, "z" * 16]:

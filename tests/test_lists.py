@@ -5,7 +5,7 @@ import re
 import string
 import unittest
 
-from tests.helper import TABLE, ask, load, part, plain_signs, text_of
+from tests.helper import NO_PATTERNS, TABLE, ask, load, part, plain_signs, text_of
 
 MANY_WORDS = [a + b for a in "abcde" for b in "fghij"]
 MANY_PATTERNS = [f"1{a}{b}" for a in "abcdefg" for b in "hijklm"]
@@ -203,9 +203,7 @@ class Values(ListCase):
             self.right(f"margins 0 0 ; pattern {pattern} ;", 0, 1)
 
     def test_patterns_not_as_told(self):
-        for pattern in ["a", "abc", ".a.", "1", "12", ".", "..", ".1.", ".1", "1.", "...", "0a", "a0", "a0b", "1a0",
-                        "a12", "11a", "a12b", "..a1", "a1..", "1.a", "a.1", "a.1b", ".a.b1", "a-1", "-a1", "a1-",
-                        "1abcdefg", "abcdefg1", "1abcdefghijklmnop", "-", "a1.b"]:
+        for pattern in NO_PATTERNS:
             self.fault(f"margins 0 0 ; pattern {pattern} ;", 7, 22)
 
     def test_words_with_the_same_letters(self):

@@ -4,7 +4,8 @@ import itertools
 import random
 import unittest
 
-from tests.helper import STORE, TABLE, ask, load, plain_signs, some_patterns, stored_nodes, text_of, told_ends
+from tests.helper import STORE, TABLE, ask, greatest_patterns, load, plain_signs, plain_sizes, plain_table
+from tests.helper import some_patterns, stored_nodes, text_of, told_ends
 
 
 def stored(patterns):
@@ -17,29 +18,6 @@ def stored(patterns):
 
 def sizes(patterns):
     return ask(load(text_of(patterns)), [TABLE])[1]
-
-
-def plain_table(patterns):
-    """The numbers of the table, made another way: from all beginnings of signs, in the order of their nodes.
-
-    A beginning comes behind all that go on from it, and those are in order of their signs.
-    """
-    ends = dict(plain_signs(pattern) for pattern in patterns)
-    beginnings = {signs[:k] for signs in ends for k in range(len(signs) + 1)} | {()}
-    # A sign above all others at the end puts a beginning behind what goes on from it.
-    ordered = sorted(beginnings, key=lambda signs: signs + (1000,))
-    numbers, made = {}, []
-    for signs in ordered:
-        ways = sorted((on[-1], numbers[on]) for on in beginnings if on[:-1] == signs and on)
-        node = (ends.get(signs), ways)
-        if node not in made:
-            made.append(node)
-        numbers[signs] = made.index(node)
-    told = [len(made)]
-    for digits, ways in made:
-        told += [0] if digits is None else [1, len(digits), *digits]
-        told += [len(ways)] + [number for way in ways for number in way]
-    return told + [numbers[()]]
 
 
 class TableCase(unittest.TestCase):
@@ -56,8 +34,8 @@ class TableCase(unittest.TestCase):
         self.assertEqual(numbers, plain_table(patterns))
         ways = sum(len(ways) for digits, ways in nodes)
         ends = sum(digits is not None for digits, ways in nodes)
-        beginnings = {plain_signs(pattern)[0][:k] for pattern in patterns for k in range(9)} | {()}
-        self.assertEqual(sizes(patterns), [len(patterns), len(nodes), ways, ends, len(beginnings)])
+        self.assertEqual(sizes(patterns), plain_sizes(patterns))
+        self.assertEqual(sizes(patterns)[:-1], [len(patterns), len(nodes), ways, ends])
 
 
 class Tables(TableCase):
@@ -110,12 +88,8 @@ class Tables(TableCase):
             self.assertEqual(stored(mixed), stored(patterns))
 
     def test_the_greatest_tables(self):
-        chance = random.Random(3)
-        letters = "abcdefghijklmnopqrstuvwxyz"
-        patterns = [f".{a}1" + "".join(chance.sample(letters, 5)) + "." for a in letters[:20]]
-        patterns += [f"{a}1" + "".join(chance.sample(letters, 5)) + f"{k % 9 + 1}." for k, a in enumerate(letters[:20])]
-        self.holds(patterns)
-        self.assertLess(sizes(patterns)[1], 300)
+        self.holds(greatest_patterns())
+        self.assertEqual(sizes(greatest_patterns()), [40, 282, 281, 40, 282])
 
 
 if __name__ == "__main__":
